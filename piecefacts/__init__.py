@@ -1,0 +1,1 @@
+"""Tables in pieces, of which only facts are known until they are read."""
