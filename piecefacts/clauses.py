@@ -53,11 +53,27 @@ class Joined(Question):
 
 def is_met(question, row):
     """Tell whether a row, which has all columns of a question, meets it."""
+    return is_met_by(question, {part.column: takes_value(part, row[part.column]) for part in conditions_of(question)})
+
+
+def is_met_by(question, answers):
+    """Tell whether a question is met where a dict tells for each of its columns whether the condition is met."""
     if isinstance(question, Condition):
-        value = row[question.column]
-        return question.missing if value is None else holds(question.ranges, value)
-    answers = [is_met(part, row) for part in question.parts]
-    return all(answers) if question.word == "and" else any(answers)
+        return answers[question.column]
+    found = [is_met_by(part, answers) for part in question.parts]
+    return all(found) if question.word == "and" else any(found)
+
+
+def takes_value(condition, value):
+    """Tell whether a condition takes a value."""
+    return condition.missing if value is None else holds(condition.ranges, value)
+
+
+def conditions_of(question):
+    """Return the conditions of a question, ascending by their columns."""
+    if isinstance(question, Condition):
+        return [question]
+    return sorted([part for side in question.parts for part in conditions_of(side)], key=least_column)
 
 
 def joined(word, one, other):

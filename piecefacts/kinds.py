@@ -1,4 +1,4 @@
-"""What counts as an integer, as a column and as a number in a string."""
+"""What counts as an integer, as a value, as a column and as a number in a string."""
 
 LOWEST = -9999
 HIGHEST = 9999
@@ -11,6 +11,16 @@ DIGITS = "0123456789"
 def is_number(value):
     """Tell whether any value is an integer."""
     return isinstance(value, int) and not isinstance(value, bool)
+
+
+def is_between(value, low, high):
+    """Tell whether any value is an integer from low to high."""
+    return is_number(value) and low <= value <= high
+
+
+def is_value(value):
+    """Tell whether any value is one that a row can have in a column."""
+    return value is None or is_between(value, LOWEST, HIGHEST)
 
 
 def is_column(value):

@@ -71,6 +71,19 @@ def sums(ranges, many):
     return total
 
 
+def sums_up_to(ranges, many):
+    """Return the tuple of the range sets of all sums of 0, of 1, and so on to many integers of a range set."""
+    found = [((0, 0),)]
+    for _ in range(many):
+        found.append(added(found[-1], ranges))
+    return tuple(found)
+
+
+def completed(one, other, total):
+    """Return the range set of the integers of one to which an integer of the other can be added to give total."""
+    return both(one, tuple([(total - high, total - low) for low, high in other[::-1]]))
+
+
 def is_pair(value):
     """Tell whether any value is a pair (low, high) of integers, low not greater than high."""
     if not isinstance(value, tuple) or len(value) != 2:

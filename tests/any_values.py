@@ -9,6 +9,15 @@ def nested(inner, depth):
     return value
 
 
+def is_same(one, other):
+    """Tell whether two values are equal and of the same kinds throughout, so that True is not 1."""
+    if type(one) is not type(other) or one != other:
+        return False
+    if isinstance(one, dict):
+        return is_same(list(one.items()), list(other.items()))
+    return not isinstance(one, (list, tuple)) or all(is_same(*pair) for pair in zip(one, other))
+
+
 ANY_VALUES = [
     0, 1, -1, 5, 9999, -9999, 10000, 10 ** 9, -(10 ** 30), 10 ** 6000,
     True, False, None,

@@ -1,6 +1,6 @@
 import unittest
 
-from piecefacts.kinds import is_column, is_number, number_of
+from piecefacts.kinds import is_between, is_column, is_number, is_value, number_of
 from tests.any_values import ANY_VALUES
 
 
@@ -9,6 +9,16 @@ class KindsTest(unittest.TestCase):
         numbers = [value for value in ANY_VALUES if is_number(value)]
         self.assertEqual(numbers, [0, 1, -1, 5, 9999, -9999, 10000, 10 ** 9, -(10 ** 30), 10 ** 6000])
         self.assertFalse([value for value in numbers if isinstance(value, bool)])
+
+    def test_integers_within_bounds(self):
+        self.assertEqual([value for value in ANY_VALUES if is_between(value, 0, 5)], [0, 1, 5])
+        self.assertEqual([is_between(value, -2, 3) for value in (-3, -2, 0, 3, 4, True, None)],
+                         [False, True, True, True, False, False, False])
+
+    def test_values(self):
+        values = [value for value in ANY_VALUES if is_value(value)]
+        self.assertEqual(values, [0, 1, -1, 5, 9999, -9999, None])
+        self.assertFalse([value for value in values if isinstance(value, bool)])
 
     def test_columns(self):
         self.assertEqual([value for value in ANY_VALUES if is_column(value)], ["a", "abcdefgh"])

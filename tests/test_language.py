@@ -13,6 +13,14 @@ isinstance ord repr any all divmod iter next Exception ValueError TypeError KeyE
 ZeroDivisionError ArithmeticError OverflowError RuntimeError NotImplementedError AttributeError StopIteration
 NotImplemented property staticmethod classmethod super""".split())
 LIBRARY = {"heapq", "math", "itertools", "__future__"}
+METHODS = set("""append clear copy count endswith extend find get index insert isalnum isalpha isdigit islower isspace isupper
+items join keys ljust lower lstrip partition pop remove replace reverse rfind rjust rpartition rsplit rstrip setdefault split
+splitlines startswith strip update upper values zfill bit_length removeprefix removesuffix __init__""".split())
+BARRED = set("""register mro elements open input law version_info with_traceback add_note attrgetter breakpoint builtins compile
+copyright credits delattr dir eval exec exit gc getattr globals hasattr help id importlib license locals methodcaller os quit
+setattr type vars sys _wall _WallAttr _cold _tuplegetter _outside _record _written_out _member_names""".split())
+WORDS = set("""typing typing_extensions enum Enum IntEnum StrEnum Flag IntFlag Generic Protocol ABC ABCMeta namedtuple NamedTuple
+TypedDict TYPE_CHECKING abstractmethod dataclass overload contextmanager type""".split())
 
 
 class LanguageTest(unittest.TestCase):
@@ -59,6 +67,75 @@ class LanguageTest(unittest.TestCase):
             if hasattr(builtins, node.id):
                 self.assertIn(node.id, BUILTINS, (name, node.lineno))
                 self.assertIsInstance(node.ctx, ast.Load, (name, node.lineno))
+
+    def test_names_are_bound_once_in_a_file(self):
+        for path in FILES:
+            tree = ast.parse(path.read_text())
+            imported = [alias.name for node in tree.body if isinstance(node, ast.ImportFrom) for alias in node.names]
+            defined = [node.name for node in tree.body if isinstance(node, (ast.FunctionDef, ast.ClassDef))]
+            values = [node.targets[0].id for node in tree.body if isinstance(node, ast.Assign)]
+            bound = imported + defined + values
+            self.assertEqual(sorted(set(bound)), sorted(bound), path)
+            for node in ast.walk(tree):
+                if isinstance(node, ast.FunctionDef):
+                    inner = [part.arg for part in ast.walk(node) if isinstance(part, ast.arg)]
+                    inner += [part.id for part in ast.walk(node) if isinstance(part, ast.Name)
+                              and isinstance(part.ctx, ast.Store)]
+                    self.assertFalse(set(inner) & set(bound), (path, node.name))
+                    self.assertFalse(set(inner) & set(dir(builtins)), (path, node.name))
+
+    def test_barred_names_and_words(self):
+        for name, node in self.each_node((ast.Name, ast.arg, ast.FunctionDef, ast.ClassDef, ast.Attribute)):
+            for field in ("id", "arg", "name", "attr"):
+                word = getattr(node, field, "")
+                self.assertNotIn(word, BARRED | WORDS, name)
+                if word.startswith("__"):
+                    self.assertIsInstance(node, (ast.FunctionDef, ast.Attribute), name)
+        for name, node in self.each_node(ast.Constant):
+            if isinstance(node.value, str):
+                self.assertNotIn("%", node.value, name)
+
+    def test_methods(self):
+        for name, node in self.each_node(ast.Call):
+            if isinstance(node.func, ast.Attribute):
+                self.assertIn(node.func.attr, METHODS, (name, node.lineno))
+                self.assertEqual(node.keywords, [], (name, node.lineno))
+
+    def test_own_functions_are_passed_what_they_take(self):
+        takes = {}
+        for _, node in self.each_node(ast.FunctionDef):
+            takes[node.name] = node.args
+        for name, node in self.each_node(ast.Call):
+            if isinstance(node.func, ast.Name) and node.func.id in takes:
+                args = takes[node.func.id]
+                self.assertEqual(len(node.args), len(args.args), (name, node.lineno))
+                allowed = [arg.arg for arg in args.kwonlyargs]
+                self.assertTrue(all(keyword.arg in allowed for keyword in node.keywords), (name, node.lineno))
+
+    def test_sets_are_sorted_counted_or_asked_at_once(self):
+        for path in FILES:
+            tree = ast.parse(path.read_text())
+            fine = []
+            for node in ast.walk(tree):
+                if isinstance(node, ast.Call) and isinstance(node.func, ast.Name) and node.func.id in ("sorted", "len"):
+                    fine += node.args
+            for node in ast.walk(tree):
+                made = isinstance(node, ast.Call) and isinstance(node.func, ast.Name) and node.func.id == "set"
+                if made or isinstance(node, (ast.Set, ast.SetComp)):
+                    self.assertIn(node, fine, (path, node.lineno))
+
+    def test_no_two_files_import_from_each_other(self):
+        imports = {}
+        for name, node in self.each_node(ast.ImportFrom):
+            imports.setdefault(name.removesuffix(".py"), set()).add(node.module.removeprefix("piecefacts."))
+        for start in imports:
+            reached, waiting = set(), [start]
+            while waiting:
+                for name in imports.get(waiting.pop(), ()):
+                    if name not in reached:
+                        reached.add(name)
+                        waiting.append(name)
+            self.assertNotIn(start, reached)
 
     def test_no_floats_and_no_generators_beside_own_equality(self):
         for name, node in self.each_node((ast.Constant, ast.Div, ast.GeneratorExp)):

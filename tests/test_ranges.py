@@ -3,7 +3,7 @@ import random
 import unittest
 
 from piecefacts import ranges
-from piecefacts.ranges import added, both, either, holds, is_ranges, sums, without
+from piecefacts.ranges import added, both, completed, either, holds, is_ranges, sums, sums_up_to, without
 from tests.any_values import ANY_VALUES
 from tests.examples import check_examples
 from tests.string_model import runs
@@ -153,6 +153,20 @@ class SumsTest(unittest.TestCase):
             else:
                 merged.append([low, high])
         self.assertEqual(found, tuple((low, high) for low, high in merged))
+
+    def test_sums_of_ever_more(self):
+        for numbers in SMALL[::5]:
+            one = range_set(numbers, -2)
+            self.assertEqual(sums_up_to(one, 3), tuple(sums(one, many) for many in range(4)))
+            self.assertEqual(sums_up_to(one, 0), (((0, 0),),))
+
+    def test_what_is_completed_to_a_total(self):
+        for one, other in itertools.product(SMALL[::3], SMALL[::4]):
+            for total in range(-1, 12):
+                wanted = {number for number in one if total - number in other}
+                self.assertEqual(completed(range_set(one), range_set(other), total), range_set(wanted))
+                self.assertEqual(completed(range_set(one, FAR), range_set(other, -3), total + FAR - 3),
+                                 range_set(wanted, FAR))
 
     def test_crowded_sums(self):
         chance = random.Random(4)
