@@ -99,8 +99,8 @@ def joint_span(word, one, other, size):
 
 def column_counts(question, facts, evidence):
     """Return a dict with the counts of the condition on each column of a question."""
-    parts = zip(conditions_of(question), evidence)
-    return {part.column: condition_counts(part, column_in(facts, part.column), pairs) for part, pairs in parts}
+    return {part.column: condition_counts(part, column_in(facts, part.column), pairs)
+            for part, pairs in zip(conditions_of(question), evidence)}
 
 
 def condition_counts(condition, column, evidence):

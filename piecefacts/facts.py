@@ -10,8 +10,9 @@ MOST_COLUMNS = 4
 
 def facts_of(columns, cuts, rows):
     """Return the facts of rows, with the cut points of each column."""
-    parts = zip(columns, cuts, list(zip(*rows)))
-    return len(rows), tuple([column_facts(column, points, values) for column, points, values in parts])
+    lines = list(zip(*rows))
+    found = [column_facts(column, points, values) for column, points, values in zip(columns, cuts, lines)]
+    return len(rows), tuple(found)
 
 
 def is_facts(value):

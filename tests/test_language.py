@@ -21,6 +21,32 @@ copyright credits delattr dir eval exec exit gc getattr globals hasattr help id 
 setattr type vars sys _wall _WallAttr _cold _tuplegetter _outside _record _written_out _member_names""".split())
 WORDS = set("""typing typing_extensions enum Enum IntEnum StrEnum Flag IntFlag Generic Protocol ABC ABCMeta namedtuple NamedTuple
 TypedDict TYPE_CHECKING abstractmethod dataclass overload contextmanager type""".split())
+ITERATORS = {"zip", "enumerate", "reversed", "range", "map", "iter"}
+VIEWS = {"items", "keys", "values"}
+WALKERS = {"list", "tuple", "dict", "sorted", "sum", "any", "all", "min", "max", "enumerate", "zip"}
+
+
+def iterators_not_walked(tree):
+    """Return the lines of iterators and views that are not walked where they stand: kept in a name, passed on .."""
+    walked = []
+    for node in ast.walk(tree):
+        if isinstance(node, (ast.For, ast.comprehension)):
+            walked.append(node.iter)
+        elif isinstance(node, ast.Call) and (getattr(node.func, "id", "") in WALKERS
+                                             or getattr(node.func, "attr", "") == "join"):
+            walked += node.args
+        elif isinstance(node, ast.Call) and getattr(node.func, "id", "") in ("len", "reversed", "next"):
+            walked += [part for part in node.args if getattr(getattr(part, "func", None), "id", "") in ("range", "iter")]
+    return [node.lineno for node in ast.walk(tree) if is_iterator(node) and node not in walked]
+
+
+def is_iterator(node):
+    """Tell whether a node is a call that gives an iterator or a view."""
+    if not isinstance(node, ast.Call):
+        return False
+    if isinstance(node.func, ast.Name):
+        return node.func.id in ITERATORS
+    return isinstance(node.func, ast.Attribute) and node.func.attr in VIEWS and not node.args
 
 
 class LanguageTest(unittest.TestCase):
@@ -123,6 +149,21 @@ class LanguageTest(unittest.TestCase):
                 made = isinstance(node, ast.Call) and isinstance(node.func, ast.Name) and node.func.id == "set"
                 if made or isinstance(node, (ast.Set, ast.SetComp)):
                     self.assertIn(node, fine, (path, node.lineno))
+
+    def test_iterators_are_walked_on_the_spot(self):
+        for path in FILES:
+            self.assertEqual(iterators_not_walked(ast.parse(path.read_text())), [], path)
+
+    def test_iterators_that_are_kept_are_seen(self):
+        for kept in ["parts = zip(xs, ys)", "parts = low = enumerate(xs)", "parts: list = reversed(xs)", "parts = map(f, xs)",
+                     "parts = xs.items()", "parts = zip(xs) if xs else ys", "f(zip(xs, ys))", "self.parts = xs.values()",
+                     "parts = range(3)", "parts = (zip(xs), 1)", "if parts := zip(xs):\n pass", "parts = iter(xs)",
+                     "one, other = zip(xs, ys)"]:
+            self.assertEqual(iterators_not_walked(ast.parse("xs = 1\n" + kept)), [2], kept)
+        for fine in ["parts = list(zip(xs, ys))", "for x in zip(xs, enumerate(ys)):\n pass", "parts = [x for x in xs.items()]",
+                     "parts = dict(zip(xs, ys))", "parts = ''.join(reversed(xs))", "parts = {x: y for x, y in zip(xs, ys)}",
+                     "parts = list(reversed(range(3)))", "parts = zipped(xs)", "parts = min(xs.values(), default=0)"]:
+            self.assertEqual(iterators_not_walked(ast.parse(fine)), [], fine)
 
     def test_no_two_files_import_from_each_other(self):
         imports = {}
