@@ -4,7 +4,7 @@ from piecefacts.buckets import buckets_of
 from piecefacts.clauses import conditions_of
 from piecefacts.counting import check_live, check_question, exact_evidence, live_counts, outside_span, within_span
 from piecefacts.facts import column_in, facts_of, names_in
-from piecefacts.kinds import is_value
+from piecefacts.kinds import is_row
 from piecefacts.layouts import candidate_with
 from piecefacts.ranges import added, is_ranges, without
 
@@ -46,11 +46,6 @@ def shows_settled(question, facts, live, least, greatest, value):
         return False
     counts = live_counts(question, facts, live, value)
     return least <= counts[0] and counts[-1] <= greatest
-
-
-def is_row(value, many):
-    """Tell whether any value is a row with so many values."""
-    return isinstance(value, tuple) and len(value) == many and all([is_value(entry) for entry in value])
 
 
 def is_evidence(question, facts, value):

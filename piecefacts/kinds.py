@@ -1,4 +1,4 @@
-"""What counts as an integer, as a value, as a column and as a number in a string."""
+"""What counts as an integer, as a value, as a row, as a column and as a number in a string."""
 
 LOWEST = -9999
 HIGHEST = 9999
@@ -21,6 +21,11 @@ def is_between(value, low, high):
 def is_value(value):
     """Tell whether any value is one that a row can have in a column."""
     return value is None or is_between(value, LOWEST, HIGHEST)
+
+
+def is_row(value, many):
+    """Tell whether any value is a row with so many values."""
+    return isinstance(value, tuple) and len(value) == many and all([is_value(entry) for entry in value])
 
 
 def is_column(value):
