@@ -128,6 +128,43 @@ class LanguageTest(unittest.TestCase):
                 self.assertIn(node.func.attr, METHODS | own, (name, node.lineno))
                 self.assertEqual(node.keywords, [], (name, node.lineno))
 
+    def test_names_of_methods_and_attributes(self):
+        methods, attributes = set(), set()
+        for _, node in self.each_node(ast.ClassDef):
+            methods |= {part.name for part in node.body if isinstance(part, ast.FunctionDef)}
+        for _, node in self.each_node(ast.Attribute):
+            if isinstance(node.ctx, ast.Store):
+                attributes.add(node.attr)
+        self.assertEqual(methods & attributes, set())
+        taken = {name for kind in (str, bytes, int, list, tuple, dict, set) for name in dir(kind)}
+        self.assertEqual([name for name in methods | attributes if name in taken and not name.startswith("__")], [])
+
+    def test_is_stands_beside_none_true_false_and_self(self):
+        for name, node in self.each_node(ast.Compare):
+            if any(isinstance(sign, (ast.Is, ast.IsNot)) for sign in node.ops):
+                sides = [node.left, *node.comparators]
+                self.assertTrue(any(isinstance(side, ast.Constant) or getattr(side, "id", "") == "self" for side in sides), name)
+
+    def test_what_a_loop_walks_over_is_not_changed_in_it(self):
+        changing = {"append", "clear", "extend", "insert", "pop", "remove", "reverse", "setdefault", "update"}
+        for name, loop in self.each_node(ast.For):
+            walked = {ast.unparse(part) for part in ast.walk(loop.iter) if isinstance(part, (ast.Name, ast.Attribute))}
+            for node in [node for part in loop.body for node in ast.walk(part)]:
+                changed = None
+                if isinstance(node, ast.Call) and getattr(node.func, "attr", "") in changing:
+                    changed = node.func.value
+                elif isinstance(node, ast.Subscript) and not isinstance(node.ctx, ast.Load):
+                    changed = node.value
+                self.assertFalse(changed is not None and ast.unparse(changed) in walked, (name, loop.lineno))
+
+    def test_blocks_end_as_the_rules_allow(self):
+        for name, node in self.each_node(ast.FunctionDef):
+            if node.name == "__exit__":
+                self.assertEqual([arg.arg for arg in node.args.args], ["self", "kind", "value", "trace"], name)
+                for part in ast.walk(node):
+                    self.assertNotIsInstance(part, (ast.Call, ast.For, ast.While, ast.BinOp, ast.Subscript, ast.Raise), name)
+                    self.assertNotIn(getattr(part, "id", ""), ("value", "trace"), name)
+
     def test_own_functions_are_passed_what_they_take(self):
         takes = {}
         for _, node in self.each_node(ast.FunctionDef):

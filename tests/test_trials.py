@@ -172,6 +172,19 @@ class TrialTest(unittest.TestCase):
                 trial.keep()
             self.assertEqual(table.ids()[-1], 6 + k)
 
+    def test_a_trial_goes_back_to_where_its_block_began(self):
+        table = begun()
+        trial = table.trial()
+        table.put((1, 1))
+        before = seen(table)
+        with table.trial(), table.trial(), table.trial():
+            with trial:
+                table.put((2, 2))
+                assert_refused(self, [table], TooMany, {"limit": 4}, table.tried, lambda _: None)
+            self.assertTrue(is_same(seen(table), before))
+            table.tried(lambda _: table.put((3, 3)))
+        self.assertTrue(is_same(seen(table), before))
+
     def test_a_fifth_trial(self):
         table, other = begun(), begun()
         with table.trial(), table.trial() as second, table.trial(), table.trial():
