@@ -13,7 +13,8 @@ class Trial:
         self.table = table
         self.state = table.state
         self.depth = table.depth
-        self.kept = False
+        # None until keep is called: __exit__ may ask an attribute only whether it is None.
+        self.kept = None
 
     def keep(self):
         """Let all that is done in the block stay, if it ends without an error."""
@@ -24,7 +25,7 @@ class Trial:
             raise TooMany(MOST_TRIALS)
         self.state = self.table.state
         self.depth = self.table.depth
-        self.kept = False
+        self.kept = None
         # The block works on a copy, so that what stands here stays as it is.
         self.table.state = copied(self.state)
         self.table.depth = self.depth + 1
@@ -32,5 +33,5 @@ class Trial:
 
     def __exit__(self, kind, value, trace):
         self.table.depth = self.depth
-        if kind is not None or not self.kept:
+        if kind is not None or self.kept is None:
             self.table.state = self.state

@@ -49,6 +49,28 @@ def is_iterator(node):
     return isinstance(node.func, ast.Attribute) and node.func.attr in VIEWS and not node.args
 
 
+def asked_otherwise_than_for_none(tree):
+    """Return the lines of the ifs of __exit__ that ask anything else than whether a name or an attribute is None.
+
+    This is all that they may ask in a package with a class that has __eq__ or __len__, as that of tables has.
+    """
+    exits = [node for node in ast.walk(tree) if isinstance(node, ast.FunctionDef) and node.name == "__exit__"]
+    parts = [part for node in exits for part in ast.walk(node)]
+    return [part.lineno for part in parts if isinstance(part, (ast.If, ast.IfExp)) and not asks_for_none(part.test)]
+
+
+def asks_for_none(test):
+    """Tell whether a test is `is None` or `is not None` behind a name or an attribute, or and, or, not of such."""
+    if isinstance(test, ast.BoolOp):
+        return all(asks_for_none(part) for part in test.values)
+    if isinstance(test, ast.UnaryOp):
+        return isinstance(test.op, ast.Not) and asks_for_none(test.operand)
+    if not isinstance(test, ast.Compare) or not isinstance(test.left, (ast.Name, ast.Attribute)):
+        return False
+    return (len(test.ops) == 1 and isinstance(test.ops[0], (ast.Is, ast.IsNot))
+            and isinstance(test.comparators[0], ast.Constant) and test.comparators[0].value is None)
+
+
 class LanguageTest(unittest.TestCase):
     def each_node(self, kinds):
         for path in FILES:
@@ -164,6 +186,25 @@ class LanguageTest(unittest.TestCase):
                 for part in ast.walk(node):
                     self.assertNotIsInstance(part, (ast.Call, ast.For, ast.While, ast.BinOp, ast.Subscript, ast.Raise), name)
                     self.assertNotIn(getattr(part, "id", ""), ("value", "trace"), name)
+
+    def test_ends_of_blocks_ask_only_for_none(self):
+        for path in FILES:
+            self.assertEqual(asked_otherwise_than_for_none(ast.parse(path.read_text())), [], path)
+
+    def test_ends_of_blocks_that_ask_otherwise_are_seen(self):
+        row = "class Block:\n def __exit__(self, kind, value, trace):\n  "
+        for test in ["self.kept", "kind", "not self.kept", "kind is not None or not self.kept", "kind is None and self.kept",
+                     "self.kept is True", "self.kept is not False", "self.many == 0", "self.kept == None", "self.many > 3",
+                     "None is self.kept", "kind is None is None", "self.rows[0] is None", "len(self.rows) is None", "True",
+                     "(kept := self.kept) is None", "not (kind is None or self.table.kept)", "-kind is None", "kind in ()"]:
+            for rows in (f"if {test}:\n   pass", f"if kind is None:\n   if {test}: pass", f"self.x = 1 if {test} else 2"):
+                lines = asked_otherwise_than_for_none(ast.parse(row + rows))
+                self.assertEqual(len(lines), 1, rows)
+            self.assertEqual(asked_otherwise_than_for_none(ast.parse(row + f"if kind is None: pass\n  elif {test}: pass")), [4])
+        for test in ["kind is None", "self.kept is not None", "kind is not None or self.kept is None", "not kind is None",
+                     "not (self.table.kept is None and (kind is None or self.kept is not None))"]:
+            self.assertEqual(asked_otherwise_than_for_none(ast.parse(row + f"if {test}:\n   pass")), [], test)
+        self.assertEqual(asked_otherwise_than_for_none(ast.parse("def keep(self):\n if self.kept:\n  pass")), [])
 
     def test_own_functions_are_passed_what_they_take(self):
         takes = {}
